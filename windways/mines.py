@@ -1,0 +1,77 @@
+"""Stage 1: mines, that is tuples (places, ways, inlet, outlet)."""
+
+from windways.errors import InvalidMine
+
+MOST_PLACES = 8
+MOST_WAYS = 12
+
+
+def require_mine(value):
+    """Return the value if it is a mine, otherwise raise InvalidMine."""
+    if not has_mine_frame(value):
+        raise InvalidMine(None)
+    for index, way in enumerate(value[1]):
+        if not is_place_pair(way, value[0]):
+            raise InvalidMine(index)
+    return value
+
+
+def has_mine_frame(value):
+    """Tell whether a value is a mine, whatever the elements of its ways are."""
+    if not isinstance(value, tuple) or len(value) != 4:
+        return False
+    places, ways, inlet, outlet = value
+    if not is_integer_within(places, 2, MOST_PLACES):
+        return False
+    if not isinstance(ways, tuple) or not 1 <= len(ways) <= MOST_WAYS:
+        return False
+    return is_place_pair((inlet, outlet), places)
+
+
+def is_place_pair(value, places):
+    """Tell whether a value is a pair of two different places, where there are so many places."""
+    if not isinstance(value, tuple) or len(value) != 2:
+        return False
+    first, second = value
+    if not is_integer_within(first, 0, places - 1) or not is_integer_within(second, 0, places - 1):
+        return False
+    return first != second
+
+
+def is_integer_within(value, least, most):
+    """Tell whether a value is an integer, and no boolean, from least to most."""
+    if not isinstance(value, int) or isinstance(value, bool):
+        return False
+    return least <= value <= most
+
+
+def inner_places(mine):
+    """Return the ascending tuple of the places that are neither inlet nor outlet."""
+    places, _, inlet, outlet = mine
+    return tuple([x for x in range(places) if x not in (inlet, outlet)])
+
+
+def is_joined(mine):
+    """Tell whether every place can be reached from the inlet along ways, in any direction."""
+    places, _, inlet, _ = mine
+    reached = [inlet]
+    tried = 0
+    while tried < len(reached):
+        x = reached[tried]
+        tried += 1
+        for w in ways_at(mine, x):
+            end = far_end(mine, w, x)
+            if end not in reached:
+                reached.append(end)
+    return len(reached) == places
+
+
+def ways_at(mine, x):
+    """Return the ascending tuple of the numbers of the ways with place x as an end."""
+    return tuple([w for w, way in enumerate(mine[1]) if x in way])
+
+
+def far_end(mine, w, x):
+    """Return the end of way w that is not its end x."""
+    first, second = mine[1][w]
+    return second if x == first else first
