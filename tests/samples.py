@@ -17,8 +17,18 @@ FULL = (8, ((0, 1), (0, 2), (1, 3), (2, 3), (1, 2), (3, 4), (5, 3), (4, 6), (6, 
 CROWDED = (8, ((0, 1), (2, 1), (2, 3), (4, 3), (4, 5), (6, 5), (6, 7), (0, 2), (1, 3), (2, 4), (5, 3), (7, 5)), 0, 7)
 TURNED = (5, ((4, 2), (2, 1), (1, 3), (0, 3), (0, 4), (2, 0), (1, 4), (3, 4), (3, 1)), 4, 3)
 UNJOINED = (4, ((0, 1), (2, 3)), 0, 1)
+SPLIT = (6, ((0, 1), (1, 2), (0, 2), (3, 4), (4, 5), (5, 3), (3, 4)), 0, 5)
+EMPTY = (3, (), 0, 2)
+LONE = (2, (), 1, 0)
+# The mine of point 9: a bridge whose ways stand in another sequence.
+CROSS = (4, ((0, 1), (0, 2), (1, 2), (1, 3), (2, 3)), 0, 3)
+LINE = (8, tuple((k, k + 1) for k in range(7)), 0, 7)
+LADDER = (8, ((0, 1), (0, 2), (1, 2), (1, 3), (2, 4), (3, 4), (3, 5), (4, 6), (5, 6), (5, 7), (6, 7)), 0, 7)
+WHEEL = (6, ((0, 1), (0, 2), (0, 3), (1, 2), (2, 3), (1, 4), (2, 4), (3, 4), (4, 5), (1, 5), (3, 5)), 0, 5)
 
-JOINED = (PAIR, BACKWARD_PAIR, ROW, BRIDGE, TWINS, HANGING, BEHIND, FULL, CROWDED, TURNED)
+JOINED = (PAIR, BACKWARD_PAIR, ROW, BRIDGE, TWINS, HANGING, BEHIND, FULL, CROWDED, TURNED, CROSS, LINE, LADDER, WHEEL)
+NOT_JOINED = (UNJOINED, SPLIT)
+WITHOUT_WAYS = (EMPTY, LONE)
 
 
 class Numbers:
@@ -110,3 +120,53 @@ def told_balanced(mine, levels):
 def all_levels(mine, most):
     """All tuples of levels from 0 to most for the mine."""
     return product(range(most + 1), repeat=mine[0])
+
+
+def drawn_pair(mine, numbers):
+    """Two different places."""
+    x = numbers.below(mine[0])
+    return (x, (x + 1 + numbers.below(mine[0] - 1)) % mine[0])
+
+
+def drawn_facts(mine, numbers, many):
+    return tuple(drawn_pair(mine, numbers) + (numbers.below(2),) for _ in range(many))
+
+
+def small_mine(numbers, most):
+    """A joined mine with at most so many places."""
+    while True:
+        mine = numbers.mine()
+        if mine[0] <= most:
+            return mine
+
+
+def full_mine(numbers):
+    """A joined mine with 8 places and 12 ways."""
+    while True:
+        mine = numbers.mine()
+        if mine[0] == 8 and len(mine[1]) == 12:
+            return mine
+
+
+def renamed(mine, names):
+    """The mine with place x called names[x]."""
+    places, ways, inlet, outlet = mine
+    return (places, tuple((names[a], names[b]) for a, b in ways), names[inlet], names[outlet])
+
+
+def renamed_facts(facts, names):
+    return tuple((names[x], names[y], s) for x, y, s in facts)
+
+
+def drawn_order(many, numbers):
+    """The numbers below many in a drawn sequence."""
+    order = list(range(many))
+    for k in range(many):
+        other = k + numbers.below(many - k)
+        order[k], order[other] = order[other], order[k]
+    return tuple(order)
+
+
+def exchanged(mine):
+    """The mine with inlet and outlet exchanged."""
+    return (mine[0], mine[1], mine[3], mine[2])

@@ -1,6 +1,7 @@
 """The form of the package's files: the limits of LANGUAGE.md that can be read off the code."""
 
 import ast
+import builtins
 import pathlib
 import unittest
 
@@ -14,6 +15,10 @@ FROM_LIBRARY = {
     "collections": {"defaultdict", "deque"},
 }
 FUNCTION = (ast.FunctionDef, ast.AsyncFunctionDef)
+METHODS = {
+    "append", "clear", "copy", "count", "endswith", "extend", "find", "get", "index", "insert", "isalnum", "isalpha",
+    "isdigit", "items", "join", "keys", "pop", "remove", "replace", "setdefault", "split", "startswith", "values",
+}
 
 
 class Form(unittest.TestCase):
@@ -75,6 +80,78 @@ class Form(unittest.TestCase):
         for name, node in self.nodes():
             if isinstance(node, ast.Name):
                 self.assertNotIn(node.id, barred, name)
+
+    def test_module_levels_hold_definitions_and_plain_values(self):
+        for path, tree in self.trees.items():
+            for at, node in enumerate(tree.body):
+                docstring = at == 0 and isinstance(node, ast.Expr) and isinstance(node.value, ast.Constant)
+                defined = isinstance(node, (ast.ImportFrom, ast.FunctionDef, ast.ClassDef, ast.Assign))
+                self.assertTrue(docstring or defined, (path.name, node.lineno))
+
+    def test_names_are_bound_once_and_shadow_nothing(self):
+        for path, tree in self.trees.items():
+            imported = {alias.name for node in tree.body if isinstance(node, ast.ImportFrom) for alias in node.names}
+            classes = {node.name for node in tree.body if isinstance(node, ast.ClassDef)}
+            functions = {node.name for node in tree.body if isinstance(node, ast.FunctionDef)}
+            self.assertFalse(imported & (classes | functions), path.name)
+            for node in ast.walk(tree):
+                name = node.arg if isinstance(node, ast.arg) else None
+                if isinstance(node, ast.Name) and isinstance(node.ctx, ast.Store):
+                    name = node.id
+                self.assertNotIn(name, imported | classes | functions | set(dir(builtins)), path.name)
+
+    def test_what_is_imported_is_used(self):
+        for path, tree in self.trees.items():
+            used = {node.id for node in ast.walk(tree) if isinstance(node, ast.Name)}
+            for node in tree.body:
+                if isinstance(node, ast.ImportFrom):
+                    for alias in node.names:
+                        self.assertIn(alias.name, used, path.name)
+
+    def test_files_do_not_import_one_another_in_a_ring(self):
+        imports = {}
+        for path, tree in self.trees.items():
+            imports["windways." + path.stem] = [node.module for node in tree.body if isinstance(node, ast.ImportFrom)]
+        while imports:
+            free = [name for name, others in imports.items() if not any(other in imports for other in others)]
+            self.assertTrue(free, sorted(imports))
+            for name in free:
+                del imports[name]
+
+    def test_comparisons_by_is(self):
+        for name, node in self.nodes():
+            if isinstance(node, ast.Compare):
+                for sign, right in zip(node.ops, node.comparators):
+                    if isinstance(sign, (ast.Is, ast.IsNot)):
+                        self.assertTrue(isinstance(right, ast.Constant) and right.value in (None, True, False), name)
+
+    def test_methods_are_own_ones_or_named_in_the_rules(self):
+        own = {node.name for _, node in self.nodes() if isinstance(node, ast.FunctionDef)}
+        for name, node in self.nodes():
+            if isinstance(node, ast.Call) and isinstance(node.func, ast.Attribute):
+                self.assertIn(node.func.attr, METHODS | own, name)
+
+    def test_kinds_of_expressions_and_statements(self):
+        barred = (
+            ast.GeneratorExp, ast.Lambda, ast.Await, ast.Global, ast.Nonlocal, ast.AsyncFor, ast.AsyncWith, ast.JoinedStr,
+        )
+        for name, node in self.nodes():
+            self.assertNotIsInstance(node, barred, name)
+            if isinstance(node, ast.Constant) and isinstance(node.value, str):
+                self.assertNotIn("%", node.value, name)
+            if isinstance(node, ast.ExceptHandler):
+                self.assertIsNotNone(node.type, name)
+            if isinstance(node, FUNCTION):
+                self.assertEqual(node.decorator_list, [], name)
+
+    def test_sets_are_made_only_to_be_sorted_or_measured(self):
+        for name, node in self.nodes():
+            if isinstance(node, ast.Call) and isinstance(node.func, ast.Name):
+                for part in node.args:
+                    if isinstance(part, (ast.Set, ast.SetComp)):
+                        self.assertIn(node.func.id, ("sorted", "len"), name)
+            elif isinstance(node, (ast.Assign, ast.Return)):
+                self.assertNotIsInstance(node.value, (ast.Set, ast.SetComp), name)
 
 
 if __name__ == "__main__":

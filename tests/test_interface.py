@@ -6,7 +6,9 @@ import importlib
 import inspect
 import unittest
 
-from tests.samples import BRIDGE, JOINED
+from tests.samples import JOINED
+from windways.air import levels_for
+from windways.routes import routes_of
 
 FUNCTIONS = {
     "windways.mines": {
@@ -26,6 +28,32 @@ FUNCTIONS = {
     "windways.balance": {
         "is_balanced": ["mine", "levels"],
         "widths_for": ["mine", "levels"],
+    },
+    "windways.facts": {
+        "require_facts": ["mine", "value"],
+        "opposite_of": ["fact"],
+        "facts_fit": ["facts", "levels"],
+        "ring_of": ["mine", "facts"],
+        "is_ring": ["mine", "facts", "ring"],
+        "stuck_places": ["mine", "facts"],
+    },
+    "windways.cases": {
+        "is_tree": ["mine", "facts", "tree"],
+        "tree_for": ["mine", "facts"],
+        "state_for": ["mine", "facts"],
+        "is_possible": ["mine", "facts"],
+    },
+    "windways.sures": {
+        "is_sure": ["mine", "facts", "fact"],
+        "sign_of": ["mine", "facts", "x", "y"],
+        "known_signs": ["mine", "facts"],
+        "pictures_of": ["mine", "facts"],
+    },
+    "windways.routes": {
+        "routes_of": ["mine"],
+        "side_in": ["mine", "route", "w"],
+        "sides_of": ["mine", "w"],
+        "turning_ways": ["mine"],
     },
 }
 
@@ -49,6 +77,34 @@ EXAMPLES = {
     >>> mine = (4, ((0, 1), (0, 2), (1, 3), (2, 3), (1, 2)), 0, 3)
     >>> (is_balanced(mine, (3, 2, 1, 0)), is_balanced(mine, (3, 3, 1, 0)), is_balanced(mine, (0, 1, 2, 3)))
     (True, False, False)
+    """,
+    "stage 4": """
+    >>> from windways.facts import is_ring, opposite_of, ring_of, stuck_places
+    >>> mine = (3, ((0, 1), (1, 2)), 0, 2)
+    >>> ring = ((0, 2, 1), (2, 0, 0))
+    >>> (opposite_of((0, 1, 1)), ring_of(mine, ()), is_ring(mine, ((2, 0, 0),), ring))
+    ((1, 0, 0), None, True)
+    >>> stuck_places(mine, ((0, 1, 1), (2, 1, 0)))
+    (1,)
+    """,
+    "stage 5": """
+    >>> from windways.cases import is_possible, is_tree
+    >>> mine = (3, ((0, 1), (1, 2)), 0, 2)
+    >>> facts = ((0, 1, 1), (2, 1, 0))
+    >>> (is_possible(mine, facts), is_tree(mine, facts, ("stuck", 1)), is_tree(mine, (), ("stuck", 1)))
+    (False, True, False)
+    """,
+    "stage 6": """
+    >>> from windways.sures import known_signs, pictures_of
+    >>> mine = (4, ((0, 1), (0, 2), (1, 3), (2, 3), (1, 2)), 0, 3)
+    >>> (known_signs(mine, ()), pictures_of(mine, ()))
+    ((1, 1, 1, 1, None), ((1, 1, 1, 1, -1), (1, 1, 1, 1, 0), (1, 1, 1, 1, 1)))
+    """,
+    "stage 7": """
+    >>> from windways.routes import routes_of, turning_ways
+    >>> mine = (4, ((0, 1), (0, 2), (1, 3), (2, 3), (1, 2)), 0, 3)
+    >>> (routes_of(mine), turning_ways(mine))
+    (((0, 2), (0, 4, 3), (1, 3), (1, 4, 2)), (4,))
     """,
 }
 
@@ -81,27 +137,49 @@ class Names(unittest.TestCase):
             self.assertEqual((results.failed, results.attempted > 2), (0, True), stage)
 
 
+def arguments_for(mine):
+    """A value for each parameter of the interface, for the mine."""
+    count = len(mine[1])
+    widths = tuple(range(1, count + 1))
+    first, second = mine[1][0]
+    facts = ((first, second, 0), (second, first, 1))
+    return {
+        "mine": mine,
+        "widths": widths,
+        "levels": levels_for(mine, widths),
+        "w": 0,
+        "x": first,
+        "y": second,
+        "facts": facts[:1],
+        "fact": facts[1],
+        "ring": facts,
+        "tree": ("case", first, second, ("ring", facts), ("stuck", first)),
+        "route": routes_of(mine)[0],
+    }
+
+
+VALUES = {"require_mine": "mine", "require_facts": "facts"}
+
+
+def answer_of(module, name, parameters, values, by_name):
+    """What a function returns for these values, passed by position or by name."""
+    chosen = {key: values[VALUES[name]] if key == "value" else values[key] for key in parameters}
+    function = function_of(module, name)
+    answer = function(**dict(reversed(chosen.items()))) if by_name else function(*chosen.values())
+    return list(answer) if inspect.isgenerator(answer) else answer
+
+
 class Arguments(unittest.TestCase):
-    def test_nothing_handed_in_is_changed(self):
+    def test_answers_are_the_same_by_position_and_by_name_and_nothing_is_changed(self):
         for mine in JOINED:
-            widths = tuple(range(1, len(mine[1]) + 1))
-            levels = function_of("windways.air", "levels_for")(mine, widths)
-            values = {"mine": mine, "widths": widths, "levels": levels, "value": mine, "w": 0, "x": mine[1][0][0]}
+            values = arguments_for(mine)
             before = copy.deepcopy(values)
             for module, functions in FUNCTIONS.items():
                 for name, told in functions.items():
-                    if name != "widths_for" or max(levels) <= 10000:
-                        function_of(module, name)(**{key: values[key] for key in reversed(told)})
+                    if name != "widths_for" or max(values["levels"]) <= 10000:
+                        by_position = answer_of(module, name, told, values, False)
+                        self.assertEqual(answer_of(module, name, told, values, True), by_position, name)
                         self.assertEqual(values, before, name)
-
-    def test_answers_are_the_same_by_position_and_by_name(self):
-        values = {"mine": BRIDGE, "widths": (1, 2, 3, 4, 5), "levels": (3, 2, 1, 0), "value": BRIDGE, "w": 2, "x": 3}
-        for module, functions in FUNCTIONS.items():
-            for name, told in functions.items():
-                function = function_of(module, name)
-                by_position = function(*[values[key] for key in told])
-                by_name = function(**{key: values[key] for key in reversed(told)})
-                self.assertEqual(by_position, by_name, name)
 
 
 if __name__ == "__main__":

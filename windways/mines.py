@@ -53,17 +53,24 @@ def inner_places(mine):
 
 def is_joined(mine):
     """Tell whether every place can be reached from the inlet along ways, in any direction."""
-    places, _, inlet, _ = mine
-    reached = [inlet]
+    return len(reached_places(mine)) == mine[0]
+
+
+def reached_places(mine):
+    """Return the ascending tuple of the places that can be reached from the inlet along ways, the inlet included."""
+    reached = [mine[2]]
     tried = 0
     while tried < len(reached):
-        x = reached[tried]
+        for z in near_places(mine, reached[tried]):
+            if z not in reached:
+                reached.append(z)
         tried += 1
-        for w in ways_at(mine, x):
-            end = far_end(mine, w, x)
-            if end not in reached:
-                reached.append(end)
-    return len(reached) == places
+    return tuple(sorted(reached))
+
+
+def near_places(mine, x):
+    """Return the ascending tuple of the places to which a way leads from place x."""
+    return tuple(sorted({far_end(mine, w, x) for w in ways_at(mine, x)}))
 
 
 def ways_at(mine, x):
