@@ -10,7 +10,7 @@ from tests.samples import (
     BACKWARD_PAIR, BIG, BRIDGE, CROSS, CROWDED, FULL, HANGING, JOINED, LADDER, LINE, PAIR, ROW, TURNED, TWINS, WHEEL,
     Numbers, drawn_facts, drawn_order, full_mine, random_mines, renamed, renamed_facts, small_mine,
 )
-from tests.variants import ODD, nested, values_of_every_kind, variants
+from tests.variants import ODD, long_values, nested, values_of_every_kind, variants
 from windways.cases import is_possible, is_tree, state_for, tree_for
 
 # The tree of point 9.
@@ -261,9 +261,11 @@ class IsTree(unittest.TestCase):
         self.assertIs(is_tree(ROW, ROW_FACTS, ("ring", TURN * 30)), True)
         self.assertIs(is_tree(ROW, ROW_FACTS, ("ring", TURN * 31)), False)
         self.assertIs(is_tree(ROW, ROW_FACTS, ("ring", TURN * 300000)), False)
-        odd = ((0, 1, 1), (1, 2, 0), (2, 0, 0)) * 20
-        self.assertIs(is_tree(ROW, ROW_FACTS + ((1, 2, 0), (2, 0, 0)), ("ring", odd)), True)
-        self.assertIs(is_tree(ROW, ROW_FACTS + ((1, 2, 0), (2, 0, 0)), ("ring", odd + TURN)), False)
+        odd = ((0, 1, 1), (1, 2, 0), (2, 0, 0))
+        for many, right in ((27, True), (28, True), (29, False)):
+            ring = TURN * many + odd
+            self.assertEqual(len(ring) <= 60, right)
+            self.assertIs(is_tree(ROW, ROW_FACTS + odd, ("ring", ring)), right)
 
     def test_a_leaf_with_a_state_is_none_of_a_tree(self):
         state = state_for(ROW, ())
@@ -293,6 +295,11 @@ class IsTree(unittest.TestCase):
                 ("ring", (TURN[0], (1, value, 0))), (value, TURN), ("case", value, 1, ("ring", TURN), ("ring", TURN)),
                 ("case", 0, 1, ("ring", TURN), value), ("case", 0, 1, value, ("ring", TURN)), ("ring", TURN, value),
             ):
+                self.assert_told(ROW, ROW_FACTS, whole)
+
+    def test_long_values(self):
+        for value in long_values():
+            for whole in (value, ("ring", value), ("stuck", value), ("case", 0, 1, value, ("ring", TURN))):
                 self.assert_told(ROW, ROW_FACTS, whole)
 
     def test_one_part_changed(self):

@@ -9,7 +9,7 @@ from tests.samples import (
     BACKWARD_PAIR, BIG, BRIDGE, CROSS, FULL, HANGING, JOINED, LINE, NOT_JOINED, PAIR, ROW, SPLIT, TWINS, UNJOINED,
     Numbers, drawn_facts, random_mines,
 )
-from tests.variants import nested, values_of_every_kind, variants
+from tests.variants import long_values, nested, values_of_every_kind, variants
 from windways.errors import InvalidFacts
 from windways.facts import facts_fit, is_ring, opposite_of, require_facts, ring_of, stuck_places
 
@@ -55,6 +55,11 @@ class RequireFacts(unittest.TestCase):
             self.assert_told(BRIDGE, ((0, 1, 1), (0, 1, value)))
             self.assert_told(BRIDGE, ((value, 1, 1),))
             self.assert_told(BRIDGE, ((0, value, 1),))
+
+    def test_long_values(self):
+        for value in long_values():
+            for whole in (value, (value,), ((0, 1, 1), (0, value, 1))):
+                self.assert_told(BRIDGE, whole)
 
     def test_one_part_changed(self):
         facts = ((0, 1, 1), (3, 2, 0), (1, 0, 0), (0, 1, 1))
@@ -243,6 +248,11 @@ class IsRing(unittest.TestCase):
             self.assert_told(ROW, self.FACTS, ring)
             for value in variants(ring):
                 self.assert_told(ROW, self.FACTS, value)
+
+    def test_long_values(self):
+        for value in long_values():
+            for whole in (value, (value,), ((0, 1, 1), (1, 0, value))):
+                self.assert_told(ROW, self.FACTS, whole)
 
     def test_deep_values(self):
         for empty in ((), None, 0):

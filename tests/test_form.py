@@ -98,7 +98,8 @@ class Form(unittest.TestCase):
                 name = node.arg if isinstance(node, ast.arg) else None
                 if isinstance(node, ast.Name) and isinstance(node.ctx, ast.Store):
                     name = node.id
-                self.assertNotIn(name, imported | classes | functions | set(dir(builtins)), path.name)
+                # Where a doctest ran before, "_" counts among the builtins.
+                self.assertFalse(name in imported | classes | functions | set(dir(builtins)) - {"_"}, (path.name, name))
 
     def test_what_is_imported_is_used(self):
         for path, tree in self.trees.items():
@@ -133,7 +134,8 @@ class Form(unittest.TestCase):
 
     def test_kinds_of_expressions_and_statements(self):
         barred = (
-            ast.GeneratorExp, ast.Lambda, ast.Await, ast.Global, ast.Nonlocal, ast.AsyncFor, ast.AsyncWith, ast.JoinedStr,
+            ast.GeneratorExp, ast.Lambda, ast.Await, ast.Global, ast.Nonlocal, ast.AsyncFor, ast.AsyncWith,
+            ast.JoinedStr,
         )
         for name, node in self.nodes():
             self.assertNotIsInstance(node, barred, name)

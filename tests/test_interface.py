@@ -6,7 +6,7 @@ import importlib
 import inspect
 import unittest
 
-from tests.samples import JOINED
+from tests.samples import JOINED, exchanged
 from windways.air import levels_for
 from windways.routes import routes_of
 
@@ -54,6 +54,26 @@ FUNCTIONS = {
         "side_in": ["mine", "route", "w"],
         "sides_of": ["mine", "w"],
         "turning_ways": ["mine"],
+    },
+    "windways.plain": {
+        "can_reduce": ["mine", "reductions"],
+        "reductions_for": ["mine"],
+        "is_plain": ["mine"],
+    },
+    "windways.looks": {
+        "looks_needed": ["mine", "facts", "looks", "goal"],
+    },
+    "windways.doors": {
+        "require_doors": ["mine", "value"],
+        "choices_of": ["doors"],
+        "with_shut": ["mine", "doors", "choice"],
+        "first_choice": ["mine", "doors"],
+        "undrawn_way": ["mine", "facts"],
+        "are_alike": ["mine", "other"],
+    },
+    "windways.claims": {
+        "require_claim": ["claim"],
+        "decide": ["claim"],
     },
 }
 
@@ -106,6 +126,36 @@ EXAMPLES = {
     >>> (routes_of(mine), turning_ways(mine))
     (((0, 2), (0, 4, 3), (1, 3), (1, 4, 2)), (4,))
     """,
+    "stage 8": """
+    >>> from windways.plain import can_reduce, is_plain
+    >>> mine = (4, ((0, 1), (0, 2), (1, 3), (2, 3)), 0, 3)
+    >>> (is_plain(mine), can_reduce(mine, (("behind", 1), ("behind", 2), ("beside", 4, 5))))
+    (True, None)
+    >>> can_reduce(mine, (("beside", 0, 1),))
+    0
+    """,
+    "stage 9": """
+    >>> from windways.looks import looks_needed
+    >>> mine = (4, ((0, 1), (0, 2), (1, 3), (2, 3), (1, 2)), 0, 3)
+    >>> (looks_needed(mine, (), ((1, 2),), (1, 2)), looks_needed(mine, (), ((0, 1),), (1, 2)))
+    (1, None)
+    >>> looks_needed(mine, (), (), (0, 3))
+    0
+    """,
+    "stage 10": """
+    >>> from windways.doors import choices_of, first_choice, undrawn_way
+    >>> mine = (4, ((0, 1), (0, 2), (1, 3), (2, 3), (1, 2)), 0, 3)
+    >>> doors = ((4, 3), (0, 2))
+    >>> (list(choices_of(doors)), first_choice(mine, doors), undrawn_way((3, ((0, 1), (1, 2)), 0, 2), ((2, 1, 0),)))
+    ([(), (1,), (0,), (0, 1)], (1,), None)
+    """,
+    "stage 11": """
+    >>> from windways.claims import decide
+    >>> mine = (4, ((0, 1), (0, 2), (1, 3), (2, 3), (1, 2)), 0, 3)
+    >>> told = decide(("way", mine, 4, -1))
+    >>> (told[0], told[2])
+    ('shown', (1, 4, 2))
+    """,
 }
 
 
@@ -155,10 +205,17 @@ def arguments_for(mine):
         "ring": facts,
         "tree": ("case", first, second, ("ring", facts), ("stuck", first)),
         "route": routes_of(mine)[0],
+        "reductions": (("beside", 0, count - 1), ("hung", first, (second,)), ("behind", second)),
+        "looks": ((first, second), (second, first)),
+        "goal": (second, first),
+        "doors": ((0, 7),),
+        "choice": (0,),
+        "other": exchanged(mine),
+        "claim": ("sure", mine, facts[:1], facts[1]),
     }
 
 
-VALUES = {"require_mine": "mine", "require_facts": "facts"}
+VALUES = {"require_mine": "mine", "require_facts": "facts", "require_doors": "doors"}
 
 
 def answer_of(module, name, parameters, values, by_name):

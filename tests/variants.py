@@ -22,8 +22,13 @@ def values_of_every_kind():
         found.append(nested(95, empty))
         found.append((nested(95, empty),))
         found.append((nested(90, empty), nested(91, empty), nested(92, empty)))
-    found += [(0,) * 300000, "x" * 300000, [0] * 300000, ((0, 1),) * 100000]
     return found
+
+
+def long_values():
+    """Values with many parts."""
+    many = 100000
+    return [(0,) * many, "x" * many, [0] * many, ((0, 1),) * many, ((0, 1, 1),) * many, {"a": [None] * many}]
 
 
 def variants(value, others=ODD):

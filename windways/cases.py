@@ -40,7 +40,7 @@ def is_right_leaf(mine, said, leaf):
 
 def is_inner_place(mine, value):
     """Tell whether any value is an inner place of the mine."""
-    return isinstance(value, int) and not isinstance(value, bool) and value in inner_places(mine)
+    return not isinstance(value, bool) and value in inner_places(mine)
 
 
 def tree_for(mine, facts):

@@ -100,7 +100,7 @@ def is_ring(mine, facts, ring):
 
 def is_ring_among(mine, said, ring):
     """Tell whether any value is a ring of facts that were said, the keys of a dict."""
-    if not isinstance(ring, tuple) or not ring:
+    if not isinstance(ring, tuple):
         return False
     for fact in ring:
         # The form comes first: True would count as 1 among the keys, and not every value can be looked up.
