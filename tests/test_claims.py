@@ -14,6 +14,7 @@ from tests.samples import (
 from tests.test_looks import STAR, told_number
 from tests.variants import ODD, long_values, nested, values_of_every_kind, variants
 from windways.cases import is_tree
+from windways.checker import first_fault
 from windways.claims import decide, require_claim
 from windways.errors import InvalidClaim
 
@@ -65,8 +66,10 @@ class Certificates(unittest.TestCase):
         self.assertEqual(len(certificate), 3)
         self.assertEqual(certificate[1], claim)
         self.assertIsNone(certificate_fault(certificate), certificate)
+        self.assertIsNone(first_fault(certificate), certificate)
         other = ("broken" if certificate[0] == "shown" else "shown",) + certificate[1:]
-        self.assertIsNotNone(certificate_fault(other), other)
+        self.assertIsNotNone(first_fault(other), other)
+        self.assertEqual(first_fault(other), certificate_fault(other), other)
         self.assertTrue(all(told.most_cases(tree) <= 24 for tree in trees_in(certificate[2])))
         return certificate
 

@@ -8,6 +8,7 @@ import unittest
 
 from tests.samples import JOINED, exchanged
 from windways.air import levels_for
+from windways.errors import NotPlain
 from windways.routes import routes_of
 
 FUNCTIONS = {
@@ -74,6 +75,28 @@ FUNCTIONS = {
     "windways.claims": {
         "require_claim": ["claim"],
         "decide": ["claim"],
+    },
+    "windways.checker": {
+        "first_fault": ["certificate"],
+    },
+    "windways.amounts": {
+        "amounts_of": ["mine", "widths", "levels"],
+        "is_lock": ["mine", "w", "others", "value"],
+        "lock_for": ["mine", "w", "others"],
+        "is_within_others": ["mine", "w", "others"],
+        "strong_state": ["mine", "route"],
+        "same_air": ["mine"],
+    },
+    "windways.bounds": {
+        "is_bound": ["mine", "weights"],
+        "greatest_along": ["mine", "weights"],
+        "ways_on": ["mine", "begun"],
+        "is_walk": ["mine", "weights", "value"],
+        "walk_for": ["mine", "weights"],
+    },
+    "windways.wider": {
+        "effect_of": ["mine", "v", "w"],
+        "effects_of": ["mine"],
     },
 }
 
@@ -150,11 +173,34 @@ EXAMPLES = {
     ([(), (1,), (0,), (0, 1)], (1,), None)
     """,
     "stage 11": """
+    >>> from windways.checker import first_fault
     >>> from windways.claims import decide
     >>> mine = (4, ((0, 1), (0, 2), (1, 3), (2, 3), (1, 2)), 0, 3)
     >>> told = decide(("way", mine, 4, -1))
-    >>> (told[0], told[2])
-    ('shown', (1, 4, 2))
+    >>> (told[0], told[2], first_fault(told), first_fault(("broken",) + told[1:]))
+    ('shown', (1, 4, 2), None, ('paper',))
+    """,
+    "stage 14": """
+    >>> from windways.amounts import is_lock, is_within_others, same_air
+    >>> mine = (4, ((0, 1), (0, 2), (1, 2), (1, 3), (2, 3)), 0, 3)
+    >>> (is_within_others(mine, 2, (0, 1)), is_within_others(mine, 2, (0,)), is_lock(mine, 2, (0, 1), (3, (1, 2))))
+    (True, False, True)
+    >>> same_air((3, ((0, 1), (1, 2), (0, 2)), 0, 2))
+    ((0, 1), (2,))
+    """,
+    "stage 15": """
+    >>> from windways.bounds import greatest_along, is_bound, walk_for, ways_on
+    >>> mine = (4, ((0, 1), (0, 2), (1, 2), (1, 3), (2, 3)), 0, 3)
+    >>> (is_bound(mine, (-1, -1, 1, 0, 0)), greatest_along(mine, (0, 0, 1, 0, 0)), ways_on(mine, (0,)))
+    (True, 1, (2, 3))
+    >>> print(walk_for((2, ((0, 1),), 0, 1), (1,)))
+    None
+    """,
+    "stage 16": """
+    >>> from windways.wider import effect_of, effects_of
+    >>> mine = (4, ((0, 1), (1, 2), (1, 2), (2, 3)), 0, 3)
+    >>> (effect_of(mine, 1, 2), effects_of(mine))
+    (-1, ((1, 1, 1, 1), (1, 1, -1, 1), (1, -1, 1, 1), (1, 1, 1, 1)))
     """,
 }
 
@@ -212,17 +258,29 @@ def arguments_for(mine):
         "choice": (0,),
         "other": exchanged(mine),
         "claim": ("sure", mine, facts[:1], facts[1]),
+        "certificate": ("shown", ("can", mine, facts), [widths, {"levels": 0}]),
+        "others": tuple(range(1, count)),
+        "lock": (second, tuple(x for x in (first,) if x not in mine[2:])),
+        "weights": (1,) + (-1,) * (count - 1),
+        "begun": routes_of(mine)[0][:1],
+        "walk": ("on", [("low", [0, {"a": 1}])]),
+        "v": count - 1,
     }
 
 
-VALUES = {"require_mine": "mine", "require_facts": "facts", "require_doors": "doors"}
+VALUES = {
+    "require_mine": "mine", "require_facts": "facts", "require_doors": "doors", "is_lock": "lock", "is_walk": "walk",
+}
 
 
 def answer_of(module, name, parameters, values, by_name):
-    """What a function returns for these values, passed by position or by name."""
+    """What a function returns for these values, passed by position or by name, or the class of the error."""
     chosen = {key: values[VALUES[name]] if key == "value" else values[key] for key in parameters}
     function = function_of(module, name)
-    answer = function(**dict(reversed(chosen.items()))) if by_name else function(*chosen.values())
+    try:
+        answer = function(**dict(reversed(chosen.items()))) if by_name else function(*chosen.values())
+    except NotPlain:
+        return NotPlain
     return list(answer) if inspect.isgenerator(answer) else answer
 
 

@@ -1,5 +1,6 @@
 """The document's rules about facts, trees and papers, told once more in the plainest way, to check answers against."""
 
+from functools import lru_cache
 from itertools import permutations, product
 
 from tests.samples import BIG, told_balanced, told_inner, told_joined, told_state
@@ -262,6 +263,7 @@ def state_fault(mine, facts, state):
     return None if fits(facts, state[1]) else ("facts",)
 
 
+@lru_cache(maxsize=2000)
 def told_routes(mine):
     """All routes: for each row of different places from the inlet to the outlet, all ways to go along it."""
     _, ways, inlet, outlet = mine
@@ -301,6 +303,7 @@ def told_turning(mine):
     return tuple(w for w, seen in enumerate(sides) if {1, -1} <= seen)
 
 
+@lru_cache(maxsize=2000)
 def makes_plain(mine):
     return bool(told_routes(mine)) and not told_turning(mine)
 

@@ -45,6 +45,40 @@ def is_integer_within(value, least, most):
     return least <= value <= most
 
 
+def are_integers_within(value, many, least, most):
+    """Tell whether a value is a tuple of so many integers from least to most."""
+    if not isinstance(value, tuple) or len(value) != many:
+        return False
+    return all([is_integer_within(number, least, most) for number in value])
+
+
+def is_rising(value, most):
+    """Tell whether a value is a strictly ascending tuple of integers from 0 to most."""
+    if not isinstance(value, tuple):
+        return False
+    least = 0
+    for number in value:
+        if not is_integer_within(number, least, most):
+            return False
+        least = number + 1
+    return True
+
+
+def is_place(mine, value):
+    """Tell whether a value is a place of the mine."""
+    return is_integer_within(value, 0, mine[0] - 1)
+
+
+def is_way_number(mine, value):
+    """Tell whether a value is the number of a way of the mine."""
+    return is_integer_within(value, 0, len(mine[1]) - 1)
+
+
+def is_inner_place(mine, value):
+    """Tell whether a value is an inner place of the mine."""
+    return is_place(mine, value) and value not in mine[2:]
+
+
 def inner_places(mine):
     """Return the ascending tuple of the places that are neither inlet nor outlet."""
     places, _, inlet, outlet = mine
@@ -58,7 +92,12 @@ def is_joined(mine):
 
 def reached_places(mine):
     """Return the ascending tuple of the places that can be reached from the inlet along ways, the inlet included."""
-    reached = [mine[2]]
+    return reached_from(mine, mine[2:3])
+
+
+def reached_from(mine, starts):
+    """Return the ascending tuple of the places that can be reached from some places along ways, these included."""
+    reached = list(starts)
     tried = 0
     while tried < len(reached):
         for z in near_places(mine, reached[tried]):

@@ -1,7 +1,7 @@
 """The papers of certificates: for each kind of claim, the true verdict on a valid claim, and a paper that shows it."""
 
 from windways.air import picture_of
-from windways.cases import census_for, state_for, states_in, tree_for
+from windways.cases import census_for, state_for, tree_for
 from windways.doors import choices_of, first_choice, place_pairs, undrawn_way, with_extra, with_shut
 from windways.facts import opposite_of
 from windways.looks import looks_needed
@@ -9,7 +9,8 @@ from windways.mines import reached_places
 from windways.plain import reductions_for
 from windways.plans import foe_for, plan_for
 from windways.routes import route_using, routes_of, turning_ways
-from windways.sures import facts_of_sign
+from windways.sures import facts_of_picture, facts_of_sign
+from windways.trees import states_in
 
 
 def paper_on_can(claim):
@@ -120,14 +121,6 @@ def paper_on_alike(claim):
                 other = mines[1 - k]
                 return ("broken", (k, state, tree_for(other, facts_of_picture(other, picture))))
     return ("shown", censuses)
-
-
-def facts_of_picture(mine, picture):
-    """Return the facts of a picture for the ways of the mine."""
-    facts = ()
-    for (a, b), sign in zip(mine[1], picture):
-        facts = facts + facts_of_sign(a, b, sign)
-    return facts
 
 
 PAPERS = {

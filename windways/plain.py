@@ -62,13 +62,19 @@ def is_within(joint, some):
 
 def after_reduction(joints, reduction):
     """Return the joints after a reduction that can be done."""
+    left = without_joints(joints, removed_by(joints, reduction))
     if reduction[0] == "beside":
-        _, i, j = reduction
-        return without_joints(joints, [i, j]) + [joints[i]]
+        return left + [joints[reduction[1]]]
     if reduction[0] == "behind":
-        x = reduction[1]
-        return without_joints(joints, joints_touching(joints, (x,))) + [tuple(far_ends(joints, x))]
-    return without_joints(joints, joints_touching(joints, reduction[2]))
+        return left + [tuple(far_ends(joints, reduction[1]))]
+    return left
+
+
+def removed_by(joints, reduction):
+    """Return the list of the numbers of the joints that a reduction that can be done removes."""
+    if reduction[0] == "beside":
+        return list(reduction[1:])
+    return joints_touching(joints, reduction[1:2] if reduction[0] == "behind" else reduction[2])
 
 
 def without_joints(joints, removed):

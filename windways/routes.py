@@ -20,6 +20,23 @@ def routes_on(mine, begun, visited):
     return found
 
 
+def places_along(mine, ways):
+    """Return the tuple of the places visited along ways from the inlet, or None if no way leads on or back."""
+    visited = mine[2:3]
+    for w in ways:
+        at = visited[-1]
+        if at not in mine[1][w] or far_end(mine, w, at) in visited:
+            return None
+        visited = visited + (far_end(mine, w, at),)
+    return visited
+
+
+def is_route(mine, ways):
+    """Tell whether a tuple of numbers of ways is a route."""
+    visited = places_along(mine, ways)
+    return visited is not None and visited[-1] == mine[3]
+
+
 def side_in(mine, route, w):
     """Return 1 if the route uses way w forward, -1 if it uses it back, 0 if it does not use it."""
     at = mine[2]

@@ -19,7 +19,7 @@ class Search:
     """
 
     def __init__(self, mine, takes_all):
-        self.mine = mine
+        self._mine = mine
         self.takes_all = takes_all
         self.inner = inner_places(mine)
         self.near = [near_places(mine, x) for x in range(mine[0])]
@@ -27,13 +27,13 @@ class Search:
 
     def tree(self, facts):
         """Return the tree for the facts, or None if the search ended at a state: found has its levels."""
-        ring = ring_of(self.mine, facts)
+        ring = ring_of(self._mine, facts)
         if ring is not None:
             return ("ring", ring)
-        stuck = stuck_places(self.mine, facts)
+        stuck = stuck_places(self._mine, facts)
         if stuck:
             return ("stuck", stuck[0])
-        part = self.part(all_known(self.mine[0], with_fan(self.mine, facts)))
+        part = self.part(all_known(self._mine[0], with_fan(self._mine, facts)))
         return None if part is None else part[0]
 
     def part(self, known):
@@ -55,7 +55,7 @@ class Search:
         self.found = known.levels()
         if not self.takes_all:
             return None
-        return (("state", widths_for(self.mine, self.found), self.found), None)
+        return (("state", widths_for(self._mine, self.found), self.found), None)
 
     def part_with(self, known, fact):
         """Return a part for what is known and one more fact, or None."""
@@ -81,10 +81,10 @@ class Search:
                     return self.unsaid_case(known, [(x, z) for z in self.near[x]])
         if fewest is not None:
             return fewest[0]
-        for a, b in self.mine[1]:
+        for a, b in self._mine[1]:
             if not known.is_settled(a, b):
                 return (b, a) if known.is_not_below(b, a) else (a, b)
-        return self.unsaid_case(known, self.mine[1]) if self.takes_all else None
+        return self.unsaid_case(known, self._mine[1]) if self.takes_all else None
 
     def options_at(self, known, x):
         """Return the cases one of which is due at place x, or None; none at all if no state can be met."""

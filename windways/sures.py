@@ -1,8 +1,9 @@
 """Stage 6: what is sure by some facts, and the pictures that are left."""
 
 from windways.air import picture_of
-from windways.cases import census_for, is_possible, states_in
+from windways.cases import census_for, is_possible
 from windways.facts import opposite_of
+from windways.trees import states_in
 
 
 def is_sure(mine, facts, fact):
@@ -15,6 +16,14 @@ def facts_of_sign(x, y, sign):
     if sign == 0:
         return ((x, y, 0), (y, x, 0))
     return ((x, y, 1),) if sign == 1 else ((y, x, 1),)
+
+
+def facts_of_picture(mine, picture):
+    """Return the facts of a picture for the ways of the mine."""
+    facts = ()
+    for (a, b), sign in zip(mine[1], picture):
+        facts = facts + facts_of_sign(a, b, sign)
+    return facts
 
 
 def signs_left(mine, facts, x, y):
