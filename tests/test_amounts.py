@@ -102,7 +102,8 @@ class Within(unittest.TestCase):
             numbers = Numbers(len(mine[1]))
             for w in range(len(mine[1])):
                 for most in (2, 3, 5):
-                    self.assert_within(mine, w, tuple(k for k in range(len(mine[1])) if k != w and not numbers.below(most)))
+                    others = tuple(k for k in range(len(mine[1])) if k != w and not numbers.below(most))
+                    self.assert_within(mine, w, others)
 
     def test_amounts_in_states_bear_it_out(self):
         for mine, numbers in random_mines(304, 40):

@@ -208,8 +208,10 @@ class Walks(unittest.TestCase):
 
     def test_lengths_of_walks(self):
         self.assert_walk(TWINS, (0, 0, 0), ("on", (OUT,) * 3), True)
-        for value in (("on", (OUT,) * 2), ("on", (OUT,) * 4), ("on", [OUT] * 3), ("on", OUT), ("on",), ("on", (OUT,) * 3, ()),
-                      ("on", (OUT, OUT, None)), ["on", (OUT,) * 3], ("On", (OUT,) * 3), (OUT,) * 3, OUT * 2, "out", ("out", ()),
+        for value in (("on", (OUT,) * 2), ("on", (OUT,) * 4), ("on", [OUT] * 3), ("on", OUT), ("on",),
+                      ("on", (OUT,) * 3, ()),
+                      ("on", (OUT, OUT, None)), ["on", (OUT,) * 3], ("On", (OUT,) * 3), (OUT,) * 3, OUT * 2, "out",
+                      ("out", ()),
                       ["out"], (), None, ("low",), ("low", (0, 0), ()), {"on": (OUT,) * 3}):
             self.assert_walk(TWINS, (0, 0, 0), value, False)
 

@@ -73,7 +73,8 @@ class Frame(Rows):
             self.assertEqual(first_fault(value), ("form",))
 
     def test_claims_come_before_verdicts_and_papers(self):
-        for claim in (None, (), ("plain",), ("plain", (4, ((0, 1), (2, 3)), 0, 1)), ["plain", PAIR], ("bound", PAIR, (0,)),
+        for claim in (None, (), ("plain",), ("plain", (4, ((0, 1), (2, 3)), 0, 1)), ["plain", PAIR],
+                      ("bound", PAIR, (0,)),
                       ("within", PAIR, 0, ()), ("effect", PAIR, 0, 0, 1), ("can", PAIR, ((0, 1, 1),) * 13)):
             for verdict in ("shown", "maybe", None):
                 self.assert_fault(verdict, claim, (), ("claim",))
@@ -161,7 +162,8 @@ class Trees(Rows):
             ((0, 2, 1),), ((0, 2, 1), (2, 0, 0)), ((1, 0, 1), (0, 1, 1), (1, 0, 0)), ((0, 1, 1), (1, 2, 1), (2, 0, 1)),
         ):
             self.assert_fault("broken", claim, ("ring", ring), ("tree", ()))
-        for fact in ((1, 0, True), (True, 0, 1), (1, False, 1), (0, 0, 1), (0, 3, 1), (1, 0, 2), (1, 0), [1, 0, 1], None):
+        for fact in ((1, 0, True), (True, 0, 1), (1, False, 1), (0, 0, 1), (0, 3, 1), (1, 0, 2), (1, 0), [1, 0, 1],
+                     None):
             self.assert_papers("broken", claim, ("ring", ((1, 0, 1), (0, 1, 1), fact)), ("ring", (fact,)))
 
     def test_lengths_of_rings(self):
@@ -215,8 +217,10 @@ class Trees(Rows):
         self.assert_fault("broken", claim, ("case", 0, 2, leaf, leaf), None)
         self.assert_papers(
             "broken", claim, ("case", 0, 0, leaf, leaf), ("case", 0, 3, leaf, leaf), ("case", True, 0, leaf, leaf),
-            ("case", 0, 1, leaf), ("case", 0, 1, leaf, leaf, leaf), ("Case", 0, 1, leaf, leaf), ["case", 0, 1, leaf, leaf],
-            ("case", 0, 1, leaf, None), ("case", 0, 1, list(leaf), leaf), ("case", 0, 1, leaf, ("case", 0, 1, leaf, ())),
+            ("case", 0, 1, leaf), ("case", 0, 1, leaf, leaf, leaf), ("Case", 0, 1, leaf, leaf),
+            ["case", 0, 1, leaf, leaf],
+            ("case", 0, 1, leaf, None), ("case", 0, 1, list(leaf), leaf),
+            ("case", 0, 1, leaf, ("case", 0, 1, leaf, ())),
             ("stuck",), ("stuck", 1, 1), ("ring",), ("ring", None), ("case",), (), None, leaf[1], "stuck",
             ("state", (1, 1), (2, 1, 0)), ("case", 0, 2, leaf, ("state", (1, 1), (2, 1, 0))),
         )
@@ -267,6 +271,7 @@ class Censuses(Rows):
         still = ("count", BRIDGE, ((0, 1, 1), (0, 2, 1), (1, 3, 1), (2, 3, 1), (1, 2, 0)), 1)
         even = ("state",) + EVEN
         self.assert_fault("shown", still, even, ("tree", ()))
+        self.assert_fault("shown", still[:2] + (still[2][:4] + ((2, 1, 0),), 1), even, ("tree", ()))
         self.assert_fault("shown", still[:2] + (still[2] + ((2, 1, 0),), 1), even, None)
         self.assert_fault("shown", still, ("case", 1, 2, ("state",) + HIGH, even), ("count",))
         self.assert_fault("shown", still[:3] + (2,), ("case", 1, 2, ("state",) + HIGH, even), None)
@@ -296,7 +301,8 @@ class Censuses(Rows):
         for verdict in ("shown", "broken"):
             self.assert_papers(
                 verdict, self.ONE, self.ABOVE[1:], ("state",), self.ABOVE + (None,), ("state", self.ABOVE[1:]),
-                ("state", (0, 1, 1, 2), (3, 2, 1, 0)), ("state", (1, 1, 1, True), (2, 1, 1, 0)), ("State",) + EVEN,
+                ("state", (0, 1, 1, 2), (3, 2, 1, 0)), ("state", (1, 1, 1, True), (2, 1, 1, 0)),
+                ("State",) + self.LEVEL[1:],
                 ("state", (1, 1, 1, BIG + 1), (2, 1, 1, 0)), ("state", [1, 1, 1, 1], (2, 1, 1, 0)),
                 ("case", 1, 2, ("ring", ()), ("state", (1, 1, 1), (2, 1, 1, 0))), None, (), 1, ("state", (), ()),
             )
@@ -309,12 +315,14 @@ class Routes(Rows):
         self.assert_fault("shown", ("way", BRIDGE, 4, 1), (0, 4, 3), None)
         self.assert_fault("shown", ("way", BRIDGE, 0, 1), (0, 4, 3), None)
         for route in (
-            (), (0, 2), (1, 4), (4,), (0, 4, 3), (1, 4, 2, 2), (1, 4, 2, 3), (1, 4, 4, 4, 2), (0, 0, 1, 4, 2), (4, 1, 2),
+            (), (0, 2), (1, 4), (4,), (0, 4, 3), (1, 4, 2, 2), (1, 4, 2, 3), (1, 4, 4, 4, 2), (0, 0, 1, 4, 2),
+            (4, 1, 2),
             (1, 3, 2, 4, 4, 2), (1, 4, 0, 0, 2), (2, 4, 1), (1, 4, 2) * 4, (0,) * 12,
         ):
             self.assert_fault("shown", claim, route, ("route",))
         self.assert_papers(
-            "shown", claim, (0,) * 13, (1, 4, 2) + (0,) * 10, (1, 4, 5), (1, 4, -1), (1, 4, True), (True, 4, 2), [1, 4, 2],
+            "shown", claim, (0,) * 13, (1, 4, 2) + (0,) * 10, (1, 4, 5), (1, 4, -1), (1, 4, True), (True, 4, 2),
+            [1, 4, 2],
             None, (1, 4, None), ((1, 4, 2),), "142", ("stuck", 1),
         )
 
@@ -326,6 +334,14 @@ class Routes(Rows):
         self.assert_fault("shown", ("way", TWINS, 0, 1), (0, 1, 2), ("route",))
         self.assert_fault("shown", ("way", BEHIND, 6, 1), (0, 1, 2, 6, 7, 8), ("route",))
         self.assert_fault("shown", ("way", BEHIND, 6, 1), (6, 7, 8), None)
+
+    def test_a_way_that_does_not_lead_on(self):
+        # Way 3 ends at the outlet, but it does not begin where way 0 ends; the same with its ends exchanged.
+        for way in ((3, 2), (2, 3)):
+            mine = (4, ((0, 1), (0, 2), (1, 3), way), 0, 3)
+            self.assert_fault("shown", ("way", mine, 0, 1), (0, 3), ("route",))
+            self.assert_fault("shown", ("way", mine, 0, 1), (0, 2), None)
+            self.assert_fault("shown", ("way", mine, 3, -1 if way == (3, 2) else 1), (1, 3), None)
 
     def test_trees_for_ways(self):
         self.assert_fault("broken", ("way", ROW, 0, -1), ("ring", ((1, 0, 1), (0, 1, 1))), ("tree", ()))
@@ -346,8 +362,10 @@ class Routes(Rows):
         self.assert_fault("broken", claim, (0, one, two), ("route", 1))
         self.assert_fault("broken", claim, (1, one, two), ("route", 0))
         self.assert_papers(
-            "broken", claim, (4, one), (4, one, two, ()), (5, one, two), (-1, one, two), (True, one, two), (one, two, 4),
-            [4, one, two], (4, list(one), two), (4, one, two + (0,) * 10), (4, one, (1, 5, 2)), (4, one, None), (), None,
+            "broken", claim, (4, one), (4, one, two, ()), (5, one, two), (-1, one, two), (True, one, two),
+            (one, two, 4),
+            [4, one, two], (4, list(one), two), (4, one, two + (0,) * 10), (4, one, (1, 5, 2)), (4, one, None), (),
+            None,
             ("turns", 4, one, two),
         )
 
@@ -542,18 +560,22 @@ class Looks(Rows):
         self.assert_papers(
             "shown", self.CLAIM, None, (), (plan,), (plan, foe, None), [plan, foe], (foe, plan), ("fewer", plan),
             (plan, ()), (plan, (HIGH,)), (plan, foe + (HIGH,)), (plan, list(foe)), (plan, (HIGH, LOW[:1])),
-            ((1,) + plan[1:], foe), ((-1,) + plan[1:], foe), ((False,) + plan[1:], foe), (plan[:3], foe), ((0,) + (up,) * 4, foe),
+            ((1,) + plan[1:], foe), ((-1,) + plan[1:], foe), ((False,) + plan[1:], foe), (plan[:3], foe),
+            ((0,) + (up,) * 4, foe),
             (list(plan), foe), ((0, up, up, None), foe), (("sure", 2, up[2]), foe), (("sure", True, up[2]), foe),
-            (("sure", 1, ()), foe), (("sure", 1, up[2] * 2), foe), (("sure", 0, up[2]), foe), (("sure", 0, up[2] * 3), foe),
+            (("sure", 1, ()), foe), (("sure", 1, up[2] * 2), foe), (("sure", 0, up[2]), foe),
+            (("sure", 0, up[2] * 3), foe),
             (("sure", 1, list(up[2])), foe), (("sure", 1, up[2][0]), foe), (("sure", 1), foe), (("none",), foe),
-            (("none", None), foe), (("none", ("stuck", 0)), foe), (("none", ("state",) + HIGH), foe), (("Sure",) + up[1:], foe),
+            (("none", None), foe), (("none", ("stuck", 0)), foe), (("none", ("state",) + HIGH), foe),
+            (("Sure",) + up[1:], foe),
             (("none", turn(1, 2), ()), foe), (("sure", 1, (chain(41, turn(1, 2), True),)), foe),
         )
         self.assert_fault("shown", self.CLAIM, (("sure", 1, (chain(40, turn(1, 2), True),)), foe), ("plan", ()))
         self.assert_papers("broken", self.CLAIM, ("fewer",), ("fewer", plan, foe), ("more", foe), (plan, foe), None, (),
                            ("Fewer", plan), ["fewer", plan], (None, plan), ("fewer", None))
         entry = (1, HIGH, foe)
-        for wrong in ((True, HIGH, foe), (2, HIGH, foe), (None, HIGH, foe), (1, HIGH), (1, HIGH, foe, foe), (1, None, foe),
+        for wrong in ((True, HIGH, foe), (2, HIGH, foe), (-2, HIGH, foe), (None, HIGH, foe), (1, HIGH),
+                      (1, HIGH, foe, foe), (1, None, foe),
                       list(entry), (1, HIGH, ()), (1, HIGH, (HIGH,)), (1, (HIGH[0], HIGH[1][1:]), foe)):
             self.assert_papers("shown", self.NONE, (wrong,))
 
@@ -572,6 +594,8 @@ class Doors(Rows):
     def test_reductions_and_breaks(self):
         self.assert_fault("shown", self.CLAIM, (self.STEPS, (self.TURNS,)), None)
         self.assert_fault("shown", self.CLAIM, (self.STEPS[:2], (self.TURNS,)), ("end",))
+        self.assert_papers("shown", self.CLAIM, (self.STEPS[:2], (None,)), (self.STEPS[:2], ()),
+                           (None, (("apart", (0,)),)))
         self.assert_fault("shown", self.CLAIM, (self.STEPS + self.STEPS[:1], (self.TURNS,)), ("step", 3))
         self.assert_fault("shown", self.CLAIM, ((("beside", 0, 1),), (("apart", (0,)),)), ("step", 0))
         self.assert_fault("shown", self.CLAIM, ((), (("apart", (0,)),)), ("end",))
@@ -584,7 +608,8 @@ class Doors(Rows):
 
     def test_lengths_of_breaks(self):
         self.assert_papers(
-            "shown", self.CLAIM, (self.STEPS, ()), (self.STEPS, (self.TURNS,) * 2), (self.STEPS, self.TURNS), (self.STEPS,),
+            "shown", self.CLAIM, (self.STEPS, ()), (self.STEPS, (self.TURNS,) * 2), (self.STEPS, self.TURNS),
+            (self.STEPS,),
             (self.STEPS, (self.TURNS,), ()), self.STEPS, (self.TURNS,), (self.STEPS, [self.TURNS]),
             [self.STEPS, (self.TURNS,)], None, (),
         )
@@ -626,8 +651,10 @@ class Doors(Rows):
         self.assert_fault("broken", ("doors", BRIDGE, self.DOORS, None), ("ahead", (0, 1), ()), ("end",))
         self.assert_papers(
             "broken", self.CLAIM, ("ahead", (2,), ()), ("ahead", (1, 0), ()), ("ahead", [0], ()), ("ahead", None, ()),
-            ("ahead", (True,), ()), ("ahead", (0, 0), ()), ("ahead", (0,)), ("ahead", (0,), (), ()), ("ahead", (0,), None),
-            ("ahead", (0,), (("behind", 0),)), ("Ahead", (), ()), ("ahead", (0,), (("beside", 0, 61),)), ("not", (), ()),
+            ("ahead", (True,), ()), ("ahead", (0, 0), ()), ("ahead", (0,)), ("ahead", (0,), (), ()),
+            ("ahead", (0,), None),
+            ("ahead", (0,), (("behind", 0),)), ("Ahead", (), ()), ("ahead", (0,), (("beside", 0, 61),)),
+            ("not", (), ()),
             None, (), ["ahead", (), ()], ("ahead", 0, ()),
         )
 
@@ -636,19 +663,29 @@ class Doors(Rows):
         self.assert_fault("broken", both, ("not", ("apart", (0, 1))), None)
         for some in ((0,), (0, 2), (0, 1, 2)):
             self.assert_fault("broken", both, ("not", ("apart", some)), ("break", 0))
-        for some in ((), (1,), (0, 3), (0, 1, 3), (1, 0), (0, 0, 1), (0, 4), (-1, 0), (0, True), (False, 1), [0, 1], 0, None):
+        for some in ((), (1,), (0, 3), (0, 1, 3), (1, 0), (0, 0, 1), (0, 4), (-1, 0), (0, True), (False, 1), [0, 1], 0,
+                     None):
             self.assert_papers("broken", both, ("not", ("apart", some)))
-        self.assert_papers("broken", both, ("not", ("apart",)), ("not", ("apart", (0, 1), ())), ("not", ("Apart", (0, 1))))
+        upward = ("doors", (4, ((3, 2), (1, 0), (2, 1)), 3, 0), ((2, 1),), (0,))
+        self.assert_fault("broken", upward, ("not", ("apart", (2, 3))), None)
+        self.assert_fault("broken", upward, ("not", ("apart", (3,))), ("break", 0))
+        self.assert_papers("broken", upward, ("not", ("apart", (0, 3))), ("not", ("apart", (2,))),
+                           ("not", ("apart", (3, 4))))
+        self.assert_papers("broken", both, ("not", ("apart",)), ("not", ("apart", (0, 1), ())),
+                           ("not", ("Apart", (0, 1))))
 
     def test_breaks_that_turn(self):
         claim = ("doors", BRIDGE, (), ())
         one, two = self.TURNS[2:]
         for value, fault in (
-            (("turns", 4, one, two), None), (("turns", 4, two, one), ("break", 0)), (("turns", 4, one, one), ("break", 0)),
-            (("turns", 4, one, ()), ("break", 0)), (("turns", 0, one, two), ("break", 0)), (("turns", 5, one, two), PAPER),
+            (("turns", 4, one, two), None), (("turns", 4, two, one), ("break", 0)),
+            (("turns", 4, one, one), ("break", 0)),
+            (("turns", 4, one, ()), ("break", 0)), (("turns", 0, one, two), ("break", 0)),
+            (("turns", 5, one, two), PAPER),
             (("turns", True, one, two), PAPER), (("turns", 4, one), PAPER), (("turns", 4, one, two, ()), PAPER),
             (("turns", 4, list(one), two), PAPER), (("turns", 4, one, two + (5,)), PAPER), ((), PAPER), (None, PAPER),
-            (("turns", 4, one, (0,) * 13), PAPER), (("turns", 4, one, (0,) * 12), ("break", 0)), (("turn", 4, one, two), PAPER),
+            (("turns", 4, one, (0,) * 13), PAPER), (("turns", 4, one, (0,) * 12), ("break", 0)),
+            (("turn", 4, one, two), PAPER),
         ):
             self.assert_fault("broken", claim, ("not", value), fault)
 
@@ -691,7 +728,10 @@ class Undrawn(Rows):
             self.assert_fault("shown", claim, (right, (tree,)), None)
             self.assert_fault("shown", claim, (right, (turn(2, 1),)), ("pair", 0))
         self.assert_fault("shown", claim, (((1, 1, 1, 1), (9, 3, 2, 0)), (turn(2, 1),)), ("state",))
-        self.assert_papers("shown", claim, (state, ()), (state, (tree, tree)), (state, [tree]), (state, (("stuck", 3),)))
+        wrong = ((1, 1, 1, 1), (9, 3, 2, 0))
+        self.assert_papers("shown", claim, (wrong, ()), (wrong, (None,)), (wrong, (("stuck", 3),)), ((), (turn(2, 1),)))
+        self.assert_papers("shown", claim, (state, ()), (state, (tree, tree)), (state, [tree]),
+                           (state, (("stuck", 3),)))
         later = claim[:3] + ((0, 3),)
         self.assert_fault("shown", later, (((1, 1, 1, 1), (2, 1, 1, 0)), (turn(2, 1),) * 2), ("facts",))
         possible = ("undrawn", mine, ((1, 2, 0),), (0, 3))
@@ -717,7 +757,8 @@ class Undrawn(Rows):
             self.assert_fault("broken", ("undrawn", ROW, self.NEVER, pair), ("not", turn(2, 0)), ("tree", ()))
             self.assert_fault("broken", ("undrawn", ROW, (), pair), ("not", ("stuck", 1)), ("tree", ()))
         self.assert_papers("broken", ("undrawn", ROW, self.NEVER, None), ("not", turn(0, 2)))
-        self.assert_papers("broken", ("undrawn", ROW, self.NEVER, (0, 1)), ("not",), ("not", None), ("not", turn(0, 2), ()),
+        self.assert_papers("broken", ("undrawn", ROW, self.NEVER, (0, 1)), ("not",), ("not", None),
+                           ("not", turn(0, 2), ()),
                            ("no", turn(0, 2)), turn(0, 2), ("not", ("stuck", 2)))
 
     def test_a_stuck_place_with_the_extra_way(self):
@@ -741,7 +782,8 @@ class Undrawn(Rows):
         for other in ((0, 2), (0, 3), (1, 2), (2, 3)):
             self.assert_fault("broken", claim, ("ahead", other, state), ("ahead",))
         self.assert_papers(
-            "broken", claim, ("ahead", (1, 0), right), ("ahead", (0, 0), right), ("ahead", (0, 4), right), ("ahead", (0,), right),
+            "broken", claim, ("ahead", (1, 0), right), ("ahead", (0, 0), right), ("ahead", (0, 4), right),
+            ("ahead", (0,), right),
             ("ahead", [0, 1], right), ("ahead", (False, 1), right), ("ahead", None, right), ("ahead", (0, 1)),
             ("ahead", (0, 1), ((1, 2, 1), right[1])), ("ahead", (0, 1), right, ()), ("ahead", (0, 3), None),
             ("Ahead", (0, 1), right), ["ahead", (0, 1), right], None, (),
@@ -789,7 +831,8 @@ class Alike(Rows):
         self.assert_fault("broken", back, (0, ((1,) * 5, (6, 4, 3, 2, 1, 0)), ("stuck", 1)), ("state",))
         self.assert_papers(
             "broken", claim, (0, row, tree), (1, EVEN, tree), (2, EVEN, tree), (-1, EVEN, tree), (False, EVEN, tree),
-            (True, row, tree), (None, EVEN, tree), (0, EVEN), (0, EVEN, tree, ()), [0, EVEN, tree], (0, EVEN, ("stuck", 5)),
+            (True, row, tree), (None, EVEN, tree), (0, EVEN), (0, EVEN, tree, ()), [0, EVEN, tree],
+            (0, EVEN, ("stuck", 5)),
             (0, EVEN, None), (0, EVEN[:1], tree), (0, tree, EVEN), None, (), (0, EVEN, ("state",) + row),
         )
 

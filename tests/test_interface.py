@@ -8,7 +8,7 @@ import unittest
 
 from tests.samples import JOINED, exchanged
 from windways.air import levels_for
-from windways.errors import NotPlain
+from windways.errors import NotPlain, ParseError
 from windways.routes import routes_of
 
 FUNCTIONS = {
@@ -98,6 +98,19 @@ FUNCTIONS = {
         "effect_of": ["mine", "v", "w"],
         "effects_of": ["mine"],
     },
+    "windways.texts": {
+        "format_mine": ["mine"],
+        "format_facts": ["facts"],
+        "parse_mine": ["text"],
+        "parse_facts": ["text"],
+    },
+    "windways.amountclaims": {
+        "require_amount_claim": ["claim"],
+        "decide_amount": ["claim"],
+    },
+    "windways.amountchecker": {
+        "first_amount_fault": ["certificate"],
+    },
 }
 
 # As they stand in the document.
@@ -180,6 +193,21 @@ EXAMPLES = {
     >>> (told[0], told[2], first_fault(told), first_fault(("broken",) + told[1:]))
     ('shown', (1, 4, 2), None, ('paper',))
     """,
+    "stage 12": """
+    >>> from windways.watch import Watch
+    >>> watch = Watch((4, ((0, 1), (0, 2), (1, 3), (2, 3), (1, 2)), 0, 3))
+    >>> watch += (("see", (1, 2, 1)),)
+    >>> told = watch.signs()
+    >>> watch.shut(4)
+    >>> (told, watch.facts(), watch.sign(1, 2), watch.turning(), len(watch))
+    ((1, 1, 1, 1, 1), (), None, (), 2)
+    """,
+    "stage 13": """
+    >>> from windways.texts import format_facts, format_mine
+    >>> mine = (3, ((0, 1), (1, 2)), 0, 2)
+    >>> (format_mine(mine), format_facts(((0, 2, 1), (1, 2, 0))))
+    ('places 3\\ninlet 0\\noutlet 2\\nway 0 1\\nway 1 2\\n', '0 above 2\\n1 from 2\\n')
+    """,
     "stage 14": """
     >>> from windways.amounts import is_lock, is_within_others, same_air
     >>> mine = (4, ((0, 1), (0, 2), (1, 2), (1, 3), (2, 3)), 0, 3)
@@ -201,6 +229,14 @@ EXAMPLES = {
     >>> mine = (4, ((0, 1), (1, 2), (1, 2), (2, 3)), 0, 3)
     >>> (effect_of(mine, 1, 2), effects_of(mine))
     (-1, ((1, 1, 1, 1), (1, 1, -1, 1), (1, -1, 1, 1), (1, 1, 1, 1)))
+    """,
+    "stage 17": """
+    >>> from windways.amountchecker import first_amount_fault
+    >>> from windways.amountclaims import decide_amount
+    >>> claim = ("within", (4, ((0, 1), (0, 2), (1, 2), (1, 3), (2, 3)), 0, 3), 2, (0, 1))
+    >>> told = decide_amount(claim)
+    >>> (told[0], first_amount_fault(told), first_amount_fault(("broken", claim, ((1, 1, 1, 1, 1), (0, 0, 0, 0)))))
+    ('shown', None, ('state',))
     """,
 }
 
@@ -265,22 +301,35 @@ def arguments_for(mine):
         "begun": routes_of(mine)[0][:1],
         "walk": ("on", [("low", [0, {"a": 1}])]),
         "v": count - 1,
+        "text": "places 4\ninlet 0\nway 0 1\n",
+        "amount claim": ("bound", mine, (-1,) * count),
+        "amount certificate": ("shown", ("bound", mine, (1,) * count), ("on", [{"low": ()}])),
     }
 
 
+# What is passed for a parameter that means different things in different functions.
 VALUES = {
-    "require_mine": "mine", "require_facts": "facts", "require_doors": "doors", "is_lock": "lock", "is_walk": "walk",
+    ("require_mine", "value"): "mine",
+    ("require_facts", "value"): "facts",
+    ("require_doors", "value"): "doors",
+    ("is_lock", "value"): "lock",
+    ("is_walk", "value"): "walk",
+    ("require_amount_claim", "claim"): "amount claim",
+    ("decide_amount", "claim"): "amount claim",
+    ("first_amount_fault", "certificate"): "amount certificate",
 }
 
 
 def answer_of(module, name, parameters, values, by_name):
     """What a function returns for these values, passed by position or by name, or the class of the error."""
-    chosen = {key: values[VALUES[name]] if key == "value" else values[key] for key in parameters}
+    chosen = {key: values[VALUES.get((name, key), key)] for key in parameters}
     function = function_of(module, name)
     try:
         answer = function(**dict(reversed(chosen.items()))) if by_name else function(*chosen.values())
     except NotPlain:
         return NotPlain
+    except ParseError as wrong:
+        return wrong.line
     return list(answer) if inspect.isgenerator(answer) else answer
 
 
