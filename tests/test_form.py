@@ -146,6 +146,46 @@ class Form(unittest.TestCase):
             if isinstance(node, FUNCTION):
                 self.assertEqual(node.decorator_list, [], name)
 
+    def test_double_underscore_methods(self):
+        allowed = {
+            "__init__": ["self"], "__len__": ["self"], "__eq__": ["self", "other"], "__iadd__": ["self", "other"],
+        }
+        for name, node in self.nodes():
+            if isinstance(node, FUNCTION) and node.name.startswith("__"):
+                parameters = [parameter.arg for parameter in node.args.args]
+                self.assertEqual(parameters[:len(allowed[node.name])], allowed[node.name], name)
+                if node.name in ("__len__", "__eq__"):
+                    self.assertEqual([type(part) for part in node.body], [ast.Return], name)
+
+    def test_no_name_is_a_method_and_an_attribute(self):
+        methods, attributes = set(), set()
+        for _, node in self.nodes():
+            if isinstance(node, ast.ClassDef):
+                methods |= {part.name for part in node.body if isinstance(part, FUNCTION)}
+            if isinstance(node, ast.Attribute) and isinstance(node.ctx, ast.Store):
+                attributes.add(node.attr)
+        self.assertFalse(methods & attributes)
+
+    def test_words_that_are_not_used(self):
+        names = {
+            "register", "mro", "elements", "open", "input", "law", "version_info", "with_traceback", "add_note",
+            "compile",
+            "copyright", "dir", "exit", "gc", "help", "id", "license", "methodcaller", "os", "quit", "super", "sys",
+            "vars",
+        }
+        words = {"type", "typing", "enum", "Enum", "Flag", "Generic", "Protocol", "ABC", "namedtuple", "NamedTuple"}
+        for name, node in self.nodes():
+            told = [getattr(node, field, None) for field in ("id", "arg", "attr", "name")]
+            self.assertFalse((names | words) & {word for word in told if isinstance(word, str)}, name)
+            if isinstance(node, ast.Constant) and isinstance(node.value, str) and "\n" not in node.value:
+                self.assertTrue(node.value.endswith(".") or not words & set(node.value.split()), name)
+
+    def test_exponents_are_literals(self):
+        for name, node in self.nodes():
+            if isinstance(node, ast.BinOp) and isinstance(node.op, ast.Pow):
+                self.assertIsInstance(node.right, ast.Constant, name)
+                self.assertIn(node.right.value, range(65), name)
+
     def test_sets_are_made_only_to_be_sorted_or_measured(self):
         for name, node in self.nodes():
             if isinstance(node, ast.Call) and isinstance(node.func, ast.Name):

@@ -345,7 +345,7 @@ class Undoing(Watches):
         self.assert_refused(watch, NothingDone, {}, "undo")
 
     def test_back_to_the_first_mine(self):
-        for mine, numbers in random_mines(901, 25):
+        for mine, numbers in random_mines(901, 12):
             watch, deeds = Watch(mine), []
             for _ in range(12):
                 deed = drawn_deed(watch.mine(), watch.facts(), numbers)
